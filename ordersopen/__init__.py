@@ -1,0 +1,1 @@
+"""Expressions whose order of evaluation is partly open."""
