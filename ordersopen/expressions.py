@@ -9,6 +9,7 @@ SIGNS = ("+", "-", "*", "<")
 LENGTHS = {"read": 2, "store": 3, "step": 4, "op": 4, "call": 3, "then": 3, "and": 3, "or": 3, "choose": 4}
 FIRST_OPERANDS = {"read": 2, "store": 2, "step": 4, "op": 2, "then": 1, "and": 1, "or": 1, "choose": 1}
 OWN_STEPS = {"read": ("read",), "store": ("store",), "step": ("read", "store"), "call": ("call",)}
+GUARDS = ("and", "or", "choose")
 
 
 def is_form(book, value):
@@ -97,6 +98,11 @@ def is_open(node):
     if is_integer(node):
         return False
     return node[0] == "op" or (node[0] == "call" and len(node[2]) >= 2)
+
+
+def is_guard(node):
+    """Tell whether a node is a guard."""
+    return not is_integer(node) and node[0] in GUARDS
 
 
 def is_open_path(expression, value):

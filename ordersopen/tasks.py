@@ -1,7 +1,8 @@
 """Tasks: an expression of a book, and the points at which its order is fixed."""
 
 from ordersopen.errors import NoNode, NoPoints, TooMany
-from ordersopen.expressions import are_points, is_open, is_open_path, node_at, nodes_of, own_steps, text_of, with_node
+from ordersopen.expressions import are_points, is_open, is_open_path, node_at, nodes_of, text_of, with_node
+from ordersopen.layout import Layout
 from ordersopen.values import is_ascending
 
 
@@ -23,6 +24,7 @@ class Task:
         self.expression = expression
         self.points = points
         self.rows = tuple(rows)
+        self.layout = Layout(book, expression, points)
 
     def nodes(self):
         """List the paths of all nodes in preorder."""
@@ -57,7 +59,7 @@ class Task:
         return bare.with_points(*kept)
 
     def __len__(self):
-        return len([kind for path, node in self.rows for kind in own_steps(node)])
+        return len(self.layout.steps)
 
     def __str__(self):
         return str(text_of(self.expression, (), self.points))

@@ -6,7 +6,7 @@ import pathlib
 import unittest
 
 import ordersopen
-from ordersopen import functions, tasks
+from ordersopen import classes, functions, orders, results, steps, tasks
 
 FOLDER = pathlib.Path(ordersopen.__file__).parent
 
@@ -26,6 +26,11 @@ DEFINED = {
         "Task": ["__init__", "nodes", "node", "open_nodes", "with_points", "put", "__len__", "__str__", "__repr__",
                  "__eq__", "MOST_NODES", "MOST_DEPTH"],
     },
+    "steps": dict.fromkeys(["steps", "precedes", "races"]),
+    "orders": dict.fromkeys(["is_order", "count_orders", "order_at", "number_of"]),
+    "results": dict.fromkeys(["result", "sources", "live_steps", "trace", "all_results"]),
+    "classes": dict.fromkeys(["is_class", "classes", "count_classes", "class_of", "least_order", "orders_in",
+                              "flippable", "flipped", "flip_path"]),
 }
 
 SIGNATURES = [
@@ -38,6 +43,27 @@ SIGNATURES = [
     (tasks.Task.open_nodes, "(self)"),
     (tasks.Task.with_points, "(self, *paths)"),
     (tasks.Task.put, "(self, path, expression)"),
+    (steps.steps, "(task)"),
+    (steps.precedes, "(task, one, other)"),
+    (steps.races, "(task)"),
+    (orders.is_order, "(task, value)"),
+    (orders.count_orders, "(task)"),
+    (orders.order_at, "(task, number)"),
+    (orders.number_of, "(task, order)"),
+    (results.result, "(task, order)"),
+    (results.sources, "(task, order)"),
+    (results.live_steps, "(task, order)"),
+    (results.trace, "(task, order)"),
+    (results.all_results, "(task)"),
+    (classes.is_class, "(task, value)"),
+    (classes.classes, "(task, *, most=None)"),
+    (classes.count_classes, "(task)"),
+    (classes.class_of, "(task, order)"),
+    (classes.least_order, "(task, flips)"),
+    (classes.orders_in, "(task, flips)"),
+    (classes.flippable, "(task, flips)"),
+    (classes.flipped, "(task, flips, pair)"),
+    (classes.flip_path, "(task, one, other)"),
 ]
 
 
@@ -57,6 +83,9 @@ class Interface(unittest.TestCase):
             for name, methods in things.items():
                 self.assertIsInstance(found.get(name), ast.FunctionDef if methods is None else ast.ClassDef, name)
                 self.assertLessEqual(set(methods or ()), body_names(found[name]) if methods else set(), name)
+
+    def test_classes_is_a_generator(self):
+        self.assertTrue(inspect.isgeneratorfunction(classes.classes))
 
     def test_arguments(self):
         for thing, expected in SIGNATURES:

@@ -29,6 +29,10 @@ BARRED = set("""attrgetter breakpoint builtins compile copyright credits delattr
     hasattr help id importlib license locals methodcaller os quit setattr super type vars sys""".split())
 STATEMENTS = (ast.Import, ast.Global, ast.AsyncFunctionDef, ast.AsyncFor, ast.AsyncWith, ast.Await, ast.Div,
               ast.MatMult, ast.Set)
+LAZY = ("zip", "enumerate", "reversed", "range", "items", "keys", "values")
+TAKERS = ("list", "tuple", "dict", "sorted", "sum", "any", "all", "enumerate", "zip", "min", "max", "join")
+NO_ATTRIBUTES = set("""items keys values pop update append clear extend insert remove reverse setdefault sort args encode
+    decode hex fromhex format format_map mro""".split())
 TOP = (ast.ImportFrom, ast.FunctionDef, ast.ClassDef, ast.Assign, ast.Expr)
 
 
@@ -45,6 +49,17 @@ def all_nodes(kind):
         for node in ast.walk(tree):
             if isinstance(node, kind):
                 yield name, node
+
+
+def called(node):
+    """The name of the function or method that a call calls."""
+    return node.func.id if isinstance(node.func, ast.Name) else getattr(node.func, "attr", None)
+
+
+def own_generators():
+    """The names of the functions and methods of the package that yield."""
+    return {node.name for name, node in all_nodes(ast.FunctionDef)
+            if any(isinstance(child, (ast.Yield, ast.YieldFrom)) for child in ast.walk(node))}
 
 
 def bound(tree):
@@ -204,6 +219,58 @@ class Code(unittest.TestCase):
         for name, node in all_nodes(ast.Call):
             if isinstance(node.func, ast.Attribute):
                 self.assertIn(node.func.attr, METHODS | own, name)
+
+    def test_what_is_iterated_at_once(self):
+        lazy = {*LAZY, *own_generators()}
+        for name, tree in trees().items():
+            parents = {child: node for node in ast.walk(tree) for child in ast.iter_child_nodes(node)}
+            for node, parent in parents.items():
+                if isinstance(node, ast.Call) and called(node) in lazy:
+                    if isinstance(parent, (ast.For, ast.comprehension)):
+                        self.assertIs(parent.iter, node, name)
+                    elif isinstance(parent, ast.Compare):
+                        self.assertEqual((called(node), type(parent.ops[0])), ("range", ast.In), name)
+                    else:
+                        self.assertIsInstance(parent, ast.Call, f"{name}: line {node.lineno}")
+                        self.assertIn(called(parent), TAKERS, f"{name}: line {node.lineno}")
+                        self.assertIs(parent.args[0], node, name)
+
+    def test_names_of_generators(self):
+        names = [node.name for name, node in all_nodes(ast.FunctionDef)]
+        for name in own_generators():
+            self.assertEqual(names.count(name), 1, name)
+            self.assertNotIn(name, METHODS)
+
+    def test_attributes(self):
+        stored = {node.attr for name, node in all_nodes(ast.Attribute) if isinstance(node.ctx, ast.Store)}
+        self.assertEqual(stored & NO_ATTRIBUTES, set())
+        in_classes = [child for name, node in all_nodes(ast.ClassDef) for child in node.body]
+        known = stored | {child.name for child in in_classes if isinstance(child, ast.FunctionDef)}
+        known |= {target.id for child in in_classes if isinstance(child, ast.Assign) for target in child.targets}
+        for name, tree in trees().items():
+            functions = {id(node.func) for node in ast.walk(tree) if isinstance(node, ast.Call)}
+            for node in ast.walk(tree):
+                if isinstance(node, ast.Attribute) and id(node) not in functions:
+                    self.assertIn(node.attr, known, name)
+
+    def test_no_power_of_two(self):
+        for name, node in all_nodes(ast.BinOp):
+            if isinstance(node.op, ast.Pow):
+                self.assertIsInstance(node.right, ast.Constant, name)
+
+    def test_sets_are_not_used(self):
+        for name, node in all_nodes((ast.SetComp, ast.Set)):
+            self.fail(f"{name}: line {node.lineno}")
+        for name, node in all_nodes(ast.Name):
+            self.assertNotIn(node.id, ("set", "frozenset"), name)
+
+    def test_module_level_dicts_are_only_read(self):
+        for name, tree in trees().items():
+            dicts = {child.targets[0].id for child in tree.body
+                     if isinstance(child, ast.Assign) and isinstance(child.value, (ast.Dict, ast.List))}
+            for node in ast.walk(tree):
+                if isinstance(node, ast.Subscript) and isinstance(node.value, ast.Name) and node.value.id in dicts:
+                    self.assertIsInstance(node.ctx, ast.Load, name)
 
     def test_no_sort_beside_equality(self):
         for name, node in all_nodes(ast.Attribute):
