@@ -1,15 +1,8 @@
 """The classes of the orders of a task without guards, and the flips that lead from one to another."""
 
 from ordersopen.errors import NoPair
-from ordersopen.flips import Racing, class_bits
-from ordersopen.layout import refuse_guards
+from ordersopen.flips import class_bits, racing_of
 from ordersopen.orders import refuse_no_order
-
-
-def racing_of(task):
-    """Return the racing pairs of a task without guards; raise Guarded if it has one."""
-    refuse_guards(task)
-    return Racing(task)
 
 
 def is_class(task, value):
@@ -35,7 +28,7 @@ def class_of(task, order):
     """Return the class of an order."""
     refuse_no_order(task, order)
     places = {step: at for at, step in enumerate(order)}
-    return tuple([(one, other) for one, other in Racing(task).pairs if places[other] < places[one]])
+    return tuple([(one, other) for one, other in racing_of(task).pairs if places[other] < places[one]])
 
 
 def least_order(task, flips):

@@ -1,6 +1,7 @@
 """Classes of orders as integers: the pair with the index n is reversed if the bit n is set."""
 
 from ordersopen.errors import NoClass, TooMany
+from ordersopen.layout import refuse_guards
 from ordersopen.steps import races
 from ordersopen.values import is_integer
 
@@ -10,9 +11,9 @@ MOST_CLASSES = 500
 class Racing:
     """The racing pairs of a task without guards, and what precedes each of its steps."""
 
-    def __init__(self, task):
-        self.befores = task.layout.befores
-        self.pairs = tuple(races(task))
+    def __init__(self, befores, pairs):
+        self.befores = befores
+        self.pairs = tuple(pairs)
         self.indexes = {pair: at for at, pair in enumerate(self.pairs)}
 
     def index_of(self, value):
@@ -101,6 +102,12 @@ class Racing:
 def members(bits):
     """List the numbers of the bits that are set."""
     return [at for at in range(bits.bit_length()) if (bits >> at) & 1]
+
+
+def racing_of(task):
+    """Return the racing pairs of a task without guards; raise Guarded if it has one."""
+    refuse_guards(task)
+    return Racing(task.layout.befores, races(task))
 
 
 def class_bits(racing, value):

@@ -1,8 +1,7 @@
 """What comes of an order: the result, and the trace of where it came from."""
 
 from ordersopen.doing import ending_of, shown
-from ordersopen.flips import Racing
-from ordersopen.layout import refuse_guards
+from ordersopen.endings import least_orders
 from ordersopen.orders import refuse_no_order
 from ordersopen.terms import Terms
 from ordersopen.values import is_integer
@@ -39,18 +38,8 @@ def trace(task, order):
 
 def all_results(task):
     """List (result, order) for all results, each with its least order, ascending by these orders."""
-    refuse_guards(task)
-    racing = Racing(task)
-    orders = sorted([racing.least_order_of(bits) for bits in racing.all_bits()])
     terms = Terms()
-    seen = {}
-    found = []
-    for order in orders:
-        ending = ending_of(task.layout, order, terms)
-        if ending not in seen:
-            seen[ending] = True
-            found.append((shown(terms, ending), order))
-    return found
+    return [(shown(terms, ending), order) for ending, order in least_orders(task, terms).items()]
 
 
 def followed(layout, order):

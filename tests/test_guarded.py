@@ -2,7 +2,7 @@
 
 import unittest
 
-from ordersopen import classes, orders, results, steps
+from ordersopen import classes, compare, orders, points, results, steps
 from ordersopen.tasks import Task
 from tests.helper import WIDE, any_values, drawn_tasks, in_parallel, node_of, rows_of, told
 
@@ -35,10 +35,13 @@ OF_ONE_VALUE = [
     results.trace, classes.is_class, classes.class_of, classes.least_order, classes.orders_in, classes.flippable,
     lambda task, value: classes.flipped(task, value, value), lambda task, value: classes.flipped(task, (), value),
     lambda task, value: classes.flip_path(task, value, value), lambda task, value: classes.flip_path(task, (), value),
+    points.need_order,
 ]
 OF_A_TASK = [
     orders.count_orders, results.all_results, classes.count_classes, lambda task: list(classes.classes(task)),
-    lambda task: list(classes.classes(task, most=0)),
+    lambda task: list(classes.classes(task, most=0)), points.agree, points.are_steady, points.disagreement,
+    points.needed, points.fewest, lambda task: compare.apart(task, task),
+    lambda task: compare.apart(Task(WIDE, 1), task),
 ]
 
 
@@ -63,6 +66,12 @@ class Guarded(unittest.TestCase):
         task = Task(WIDE, ("op", "+", in_parallel(*["X"] * 7), ("op", "+", X, AND)))
         for call in OF_A_TASK:
             self.assertEqual(told(call, task), ("Guarded", {"path": (1, 1)}))
+
+    def test_ahead_of_too_many_open_nodes(self):
+        task = Task(WIDE, ("op", "+", in_parallel(*["x"] * 10), AND))
+        self.assertGreater(len(task.open_nodes()), 8)
+        for call in OF_A_TASK:
+            self.assertEqual(told(call, task), ("Guarded", {"path": (1,)}))
 
     def test_tasks_without_guards(self):
         for task in drawn_tasks(51, 40, 5):

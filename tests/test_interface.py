@@ -6,7 +6,7 @@ import pathlib
 import unittest
 
 import ordersopen
-from ordersopen import classes, functions, orders, results, steps, tasks
+from ordersopen import classes, compare, functions, orders, points, results, steps, tasks, texts
 
 FOLDER = pathlib.Path(ordersopen.__file__).parent
 
@@ -31,6 +31,9 @@ DEFINED = {
     "results": dict.fromkeys(["result", "sources", "live_steps", "trace", "all_results"]),
     "classes": dict.fromkeys(["is_class", "classes", "count_classes", "class_of", "least_order", "orders_in",
                               "flippable", "flipped", "flip_path"]),
+    "points": dict.fromkeys(["agree", "are_steady", "disagreement", "needed", "need_order", "fewest"]),
+    "compare": dict.fromkeys(["apart"]),
+    "texts": dict.fromkeys(["read_task", "show_term"]),
 }
 
 SIGNATURES = [
@@ -64,6 +67,15 @@ SIGNATURES = [
     (classes.flippable, "(task, flips)"),
     (classes.flipped, "(task, flips, pair)"),
     (classes.flip_path, "(task, one, other)"),
+    (points.agree, "(task)"),
+    (points.are_steady, "(task)"),
+    (points.disagreement, "(task)"),
+    (points.needed, "(task)"),
+    (points.need_order, "(task, path)"),
+    (points.fewest, "(task)"),
+    (compare.apart, "(one, other)"),
+    (texts.read_task, "(book, text)"),
+    (texts.show_term, "(term)"),
 ]
 
 
