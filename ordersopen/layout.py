@@ -12,7 +12,8 @@ class Span:
     """A node and the numbers of the steps in it, from `first` on: those of its operands, then its own.
 
     `is_fixed` tells whether its operands are in order, `size` how many steps
-    are `inside`.
+    are `inside`, `is_idle` whether nothing within, neither a step nor a guard,
+    has to be waited for.
     """
 
     def __init__(self, path, form, below, first, is_fixed):
@@ -25,6 +26,7 @@ class Span:
         self.size = within + many
         self.own = tuple([first + within + at for at in range(many)])
         self.inside = ((1 << self.size) - 1) << first
+        self.is_idle = self.size == 0 and not is_guard(form) and all([span.is_idle for span in below])
 
 
 def span_of(node, path, first, points):
@@ -100,8 +102,37 @@ def relations(root):
     return tuple(befores), tuple(besides)
 
 
+def unasked_within(book, span, is_asked):
+    """Return the set of the steps in a node whose values no guard comes to ask, whatever the contents are.
+
+    `is_asked` tells whether a guard may come to ask the value of the node. The
+    value that a `step` node has read is asked, as what it stores is made of it.
+    """
+    form = span.form
+    found = 0
+    for step in span.own[:1]:
+        if not is_asked and form[0] != "step":
+            found = found | (1 << step)
+    for at, one in enumerate(span.below):
+        found = found | unasked_within(book, one, is_asked_of(book, form, at, is_asked))
+    return found
+
+
+def is_asked_of(book, form, at, is_asked):
+    """Tell whether a guard may come to ask the value of this operand of a node."""
+    if form[0] == "store" or (is_guard(form) and at == 0):
+        return True
+    if form[0] == "then":
+        return is_asked and at == 1
+    return is_asked or (form[0] == "call" and len(book[form[1]].stores) > 0)
+
+
 class Layout:
-    """The nodes and steps of a task: `root` is the span of the whole, `owners` are the spans of the steps."""
+    """The nodes and steps of a task: `root` is the span of the whole, `owners` are the spans of the steps.
+
+    `stored` is the set of the steps of stores, `unasked` that of the steps
+    whose values no guard comes to ask, those of stores too.
+    """
 
     def __init__(self, book, expression, points):
         self.root = span_of(expression, (), 0, points)
@@ -112,6 +143,8 @@ class Layout:
         self.owners = tuple([owners[step] for step in range(len(owners))])
         self.steps = tuple([step_of(book, span, step) for step, span in enumerate(self.owners)])
         self.befores, self.besides = relations(self.root)
+        self.stored = sum([1 << step for step, row in enumerate(self.steps) if row[0] == "store"])
+        self.unasked = self.stored | unasked_within(book, self.root, False)
         self.guard = guards[0] if len(guards) > 0 else None
 
 

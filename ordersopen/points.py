@@ -101,8 +101,7 @@ def fewest(task):
     if len(nodes) > MOST_OPEN:
         raise TooMany(MOST_OPEN)
     racing = racing_of(task)
-    endings = class_endings(task, racing, Terms())
-    rows = [((), [bits for bits, ending in endings.items() if ending != endings[0]])]
+    rows = [((), wrong_classes(task, racing))]
     while True:
         for chosen, wrong in rows:
             if len(wrong) == 0:
@@ -110,12 +109,19 @@ def fewest(task):
         rows = [row for chosen, wrong in rows for row in with_one_more(task, racing, chosen, wrong)]
 
 
+def wrong_classes(task, racing):
+    """List the bits of the classes whose result is not that of the class ()."""
+    endings = class_endings(task, racing, Terms())
+    return [bits for bits, ending in endings.items() if ending != endings[0]]
+
+
 def with_one_more(task, racing, chosen, wrong):
     """List the tuples of points that have one more node behind these, with the wrong classes that remain then."""
-    rows = []
-    for path in task.open_nodes():
-        if len(chosen) == 0 or path > chosen[-1]:
-            more = (*chosen, path)
-            fixed = Racing(task.with_points(*more).layout.befores, racing.pairs)
-            rows.append((more, [bits for bits in wrong if fixed.least_order_of(bits) is not None]))
-    return rows
+    more = [(*chosen, path) for path in task.open_nodes() if len(chosen) == 0 or path > chosen[-1]]
+    return [(points, remaining(task, racing, points, wrong)) for points in more]
+
+
+def remaining(task, racing, points, wrong):
+    """List those of some classes that remain with these points, too."""
+    fixed = Racing(task.with_points(*points).layout.befores, racing.pairs)
+    return [bits for bits in wrong if fixed.least_order_of(bits) is not None]

@@ -19,10 +19,13 @@ def precedes(task, one, other):
 
 def races(task):
     """List the racing pairs (one, other) of steps, one < other, ascending."""
-    rows = task.layout.steps
-    besides = task.layout.besides
-    return [(one, other) for one in range(len(rows)) for other in range(one + 1, len(rows))
-            if (besides[one] >> other) & 1 and collide(rows[one], rows[other])]
+    many = len(task)
+    return [(one, other) for one in range(many) for other in range(one + 1, many) if is_race(task.layout, one, other)]
+
+
+def is_race(layout, one, other):
+    """Tell whether two steps race."""
+    return (layout.besides[one] >> other) & 1 == 1 and collide(layout.steps[one], layout.steps[other])
 
 
 def collide(one, other):

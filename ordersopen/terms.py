@@ -1,5 +1,9 @@
 """Terms, each with a number, so that equal terms are found without looking into them."""
 
+from ordersopen.expressions import SIGNS
+from ordersopen.texts import show_term
+from ordersopen.values import is_integer
+
 
 class Terms:
     """The terms that came about so far; `rows` holds them by their numbers.
@@ -11,6 +15,7 @@ class Terms:
     def __init__(self):
         self.rows = []
         self.numbers = {}
+        self.texts = {}
 
     def kept(self, key, term):
         """Return the number of the term with this key."""
@@ -42,3 +47,60 @@ class Terms:
     def told(self, numbers):
         """Return the tuple of the terms with these numbers."""
         return tuple([self.rows[at] for at in numbers])
+
+    def text_at(self, number):
+        """Return the text of the term with this number."""
+        if number not in self.texts:
+            self.texts[number] = show_term(self.rows[number])
+        return self.texts[number]
+
+    def number_of(self, value):
+        """Return the number of any value, if it is one of these terms, otherwise None.
+
+        It goes from the inside out by a list of what waits, as terms may be
+        nested deep: each comes once ahead of the terms within it, once behind.
+        """
+        waiting = [(value, False)]
+        found = []
+        while len(waiting) > 0:
+            term, is_behind = waiting.pop()
+            within = terms_within(term)
+            if within is None:
+                return None
+            if is_behind:
+                key = key_of(term, found[len(found) - len(within):])
+                del found[len(found) - len(within):]
+                if key not in self.numbers:
+                    return None
+                found.append(self.numbers[key])
+            else:
+                waiting.append((term, True))
+                waiting.extend([(one, False) for one in within[::-1]])
+        return found[0]
+
+
+def terms_within(value):
+    """Return a tuple of the terms directly within any value, if it can be a term, otherwise None."""
+    if is_integer(value):
+        return ()
+    if not isinstance(value, tuple) or len(value) < 2 or not isinstance(value[0], str):
+        return None
+    if value[0] in SIGNS:
+        return value[1:] if len(value) == 3 else None
+    names = {"first": 1, "value": 1, "left": 2}.get(value[0], 0)
+    if names == 0 or not all([isinstance(name, str) for name in value[1:1 + names]]):
+        return None
+    if value[0] == "first":
+        return () if len(value) == 2 else None
+    return value[-1] if len(value) == names + 2 and isinstance(value[-1], tuple) else None
+
+
+def key_of(term, numbers):
+    """Return the key of a term, with the numbers of the terms directly within it."""
+    if is_integer(term):
+        return ("integer", term)
+    if term[0] == "first":
+        return term
+    if term[0] in SIGNS:
+        return (term[0], *numbers)
+    return (*term[:-1], tuple(numbers))

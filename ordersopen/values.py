@@ -18,3 +18,18 @@ def copied(value):
     if isinstance(value, tuple):
         return tuple([copied(item) for item in value])
     return value
+
+
+def has_no_truth(value):
+    """Tell whether neither any value nor anything within it is True or False.
+
+    What waits stands in a list, as terms may be nested deep.
+    """
+    waiting = [value]
+    while len(waiting) > 0:
+        one = waiting.pop()
+        if isinstance(one, bool):
+            return False
+        if isinstance(one, (list, tuple)):
+            waiting.extend(list(one))
+    return True

@@ -1,6 +1,8 @@
 """What several tests need: a book, many values of all kinds, and a way to see errors."""
 
+import copy
 import functools
+import itertools
 import random
 
 from ordersopen.functions import Book, Function
@@ -295,3 +297,210 @@ def in_parallel(*rows):
 CLASSES_500 = in_parallel("YxXYxX", "XyXyX", "Y")
 CLASSES_501 = in_parallel("XYxYX", "xyxXxy", "X")
 CLASSES_SIXTEEN = in_parallel("XXX", "XXX", "yyyy", "Y", "zzzz", "Z")
+
+
+# The same for runs, cases and clashes of tasks with guards: everything is worked out anew from the steps that are done.
+
+class Unknown(Exception):
+    """A term is asked whose truth is not given; its text is the argument."""
+
+
+def text_in(term):
+    """[26]: the text of a term."""
+    if isinstance(term, int):
+        return str(term)
+    if term[0] == "first":
+        return term[1]
+    if term[0] in ("value", "left"):
+        return f"{'.'.join(term[1:-1])}({', '.join(map(text_in, term[-1]))})"
+    return f"({text_in(term[1])} {term[0]} {text_in(term[2])})"
+
+
+class Seen:
+    """[19], [20]: what is to be seen of a run after these steps, if these truths are known."""
+
+    def __init__(self, task, order, truths):
+        self.task, self.truths = task, truths
+        self.rows = rows_of(task.book, task.expression)
+        self.nodes = {path: node_of(task.expression, path) for path in task.nodes()}
+        self.guards = [path for path in self.nodes if self.form(path) in ("and", "or", "choose")]
+        self.order, self.contents, self.read = (), {}, {}
+        self.look()
+        for step in order:
+            self.go_on(step)
+
+    def go_on(self, step):
+        if self.asking:
+            raise Unknown(self.asking[0])
+        assert step in self.ready, (str(self.task), self.order, step)
+        self.do(step)
+        self.order += (step,)
+        self.look()
+
+    def after(self, step):
+        """The same after one step more."""
+        more = copy.copy(self)
+        more.contents, more.read = dict(self.contents), dict(self.read)
+        more.go_on(step)
+        return more
+
+    def look(self):
+        """Work out what is asked and ready, and the truths that were used."""
+        self.completed = {}
+        self.asking = [text_in(self.value((*path, 0))) for path in self.guards
+                       if self.starts(path) and self.complete((*path, 0)) and self.chosen(path) is None]
+        self.ready = [] if self.asking else [step for step in range(len(self.rows)) if self.is_ready(step)]
+        self.used = {}
+        for path in self.guards:
+            if self.starts(path) and self.complete((*path, 0)) and self.chosen(path) is not None:
+                term = self.value((*path, 0))
+                if not isinstance(term, int):
+                    self.used[text_in(term)] = self.truths[text_in(term)]
+        self.is_over = not self.asking and not self.ready
+
+    def form(self, path):
+        return "integer" if isinstance(self.nodes[path], int) else self.nodes[path][0]
+
+    def below(self, path):
+        return [(*path, at) for at in range(len(operands_of(self.nodes[path])))]
+
+    def starts(self, path):
+        for depth, at in enumerate(path):
+            above = path[:depth]
+            form = self.form(above)
+            if form == "then" or above in self.task.points:
+                if not all(self.complete((*above, less)) for less in range(at)):
+                    return False
+            if form in ("and", "or", "choose") and at > 0:
+                if not self.starts(above) or not self.complete((*above, 0)) or self.chosen(above) != at:
+                    return False
+        return True
+
+    def complete(self, path):
+        if path not in self.completed:
+            self.completed[path] = self.work_out_complete(path)
+        return self.completed[path]
+
+    def work_out_complete(self, path):
+        if not self.starts(path):
+            return False
+        if self.form(path) in ("and", "or", "choose"):
+            if not self.complete((*path, 0)) or self.chosen(path) is None:
+                return False
+            return self.chosen(path) == 0 or self.complete((*path, self.chosen(path)))
+        own = [step for step, row in enumerate(self.rows) if row[1] == path]
+        return all(self.complete(one) for one in self.below(path)) and all(step in self.order for step in own)
+
+    def chosen(self, path):
+        """The index of the branch that a guard chose, 0 if it chose none, None if it is not decided."""
+        term = self.value((*path, 0))
+        truth = term != 0 if isinstance(term, int) else self.truths.get(text_in(term))
+        if truth is None:
+            return None
+        return {"and": (0, 1), "or": (1, 0), "choose": (2, 1)}[self.form(path)][truth]
+
+    def is_ready(self, step):
+        path = self.rows[step][1]
+        own = [other for other, row in enumerate(self.rows) if row[1] == path]
+        return (step not in self.order and self.starts(path) and all(self.complete(one) for one in self.below(path))
+                and all(other in self.order for other in own if other < step))
+
+    def content(self, place):
+        return self.contents.get(place, ("first", place))
+
+    def value(self, path):
+        """The value of a node that is complete."""
+        node = self.nodes[path]
+        form = self.form(path)
+        if form == "integer":
+            return node
+        if form == "op":
+            return node[1], self.value((*path, 0)), self.value((*path, 1))
+        if form in ("then", "store"):
+            return self.value((*path, 1 if form == "then" else 0))
+        if form in ("and", "or", "choose"):
+            return self.value((*path, self.chosen(path)))
+        step = min(at for at, row in enumerate(self.rows) if row[1] == path)
+        if form == "step" and node[3] == "before":
+            return "+" if node[2] == 1 else "-", self.read[step], 1
+        return self.read[step]
+
+    def do(self, step):
+        kind, path, reads, stores = self.rows[step]
+        node = self.nodes[path]
+        if kind == "read":
+            self.read[step] = self.content(node[1])
+        elif kind == "call":
+            inputs = (*map(self.value, self.below(path)), *map(self.content, reads))
+            self.read[step] = ("value", node[1], inputs)
+            self.contents.update({place: ("left", node[1], place, inputs) for place in stores})
+        elif node[0] == "store":
+            self.contents[node[1]] = self.value((*path, 0))
+        else:
+            self.contents[node[1]] = ("+" if node[2] == 1 else "-", self.read[step - 1], 1)
+
+    def changed(self):
+        return tuple((place, term) for place, term in sorted(self.contents.items()) if term != ("first", place))
+
+    def result(self):
+        return self.value(()), self.changed()
+
+    def state(self):
+        """[23]."""
+        return tuple((step, self.read.get(step, ())) for step in sorted(self.order)), self.changed()
+
+
+def prefixes_in(task, truths, seen=None):
+    """All (order, Seen) of the prefixes of runs under these truths, ascending; Unknown if another truth is asked."""
+    seen = seen or Seen(task, (), truths)
+    if seen.asking:
+        raise Unknown(seen.asking[0])
+    found = [(seen.order, seen)]
+    for step in seen.ready:
+        found += prefixes_in(task, truths, seen.after(step))
+    return found
+
+
+def runs_in(task, truths):
+    """[20]: all (order, Seen) of the runs under these truths, ascending."""
+    return [(order, seen) for order, seen in prefixes_in(task, truths) if seen.is_over]
+
+
+def texts_in(task, truths=None):
+    """The texts of all terms that are asked in any run under any truths."""
+    truths = truths or {}
+    try:
+        prefixes_in(task, truths)
+        return set()
+    except Unknown as unknown:
+        text = unknown.args[0]
+    return {text}.union(*(texts_in(task, {**truths, text: truth}) for truth in (False, True)))
+
+
+def cases_in(task):
+    """[21]: all cases, ascending, by all truths of all terms that can be asked."""
+    texts = sorted(texts_in(task))
+    found = set()
+    for truths in itertools.product((False, True), repeat=len(texts)):
+        known = dict(zip(texts, truths))
+        asked = {text for order, seen in runs_in(task, known) for text in seen.used}
+        found.add(tuple((text, known[text]) for text in sorted(asked)))
+    return sorted(found)
+
+
+def is_clash_in(task, truths, prefix, one, other):
+    """[22]: whether this is a clash under these truths, which must be all that are asked."""
+    seen = Seen(task, prefix, truths)
+    if not (one < other and one in seen.ready and other in seen.ready and (one, other) in races_of(task)):
+        return False
+    return len({left_first(task, truths, (*prefix, *pair)).result() for pair in ((one, other), (other, one))}) == 2
+
+
+def left_first(task, truths, order):
+    """The end of the run that goes on left first."""
+    seen = Seen(task, order, truths)
+    while seen.ready:
+        seen = seen.after(seen.ready[0])
+    if seen.asking:
+        raise Unknown(seen.asking[0])
+    return seen

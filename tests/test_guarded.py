@@ -2,7 +2,7 @@
 
 import unittest
 
-from ordersopen import classes, compare, orders, points, results, steps
+from ordersopen import classes, compare, orders, papers, points, results, steps
 from ordersopen.tasks import Task
 from tests.helper import WIDE, any_values, drawn_tasks, in_parallel, node_of, rows_of, told
 
@@ -35,13 +35,15 @@ OF_ONE_VALUE = [
     results.trace, classes.is_class, classes.class_of, classes.least_order, classes.orders_in, classes.flippable,
     lambda task, value: classes.flipped(task, value, value), lambda task, value: classes.flipped(task, (), value),
     lambda task, value: classes.flip_path(task, value, value), lambda task, value: classes.flip_path(task, (), value),
-    points.need_order,
+    points.need_order, lambda task, value: papers.path_paper(task, value, value),
+    lambda task, value: papers.path_paper(task, (), value),
 ]
 OF_A_TASK = [
     orders.count_orders, results.all_results, classes.count_classes, lambda task: list(classes.classes(task)),
     lambda task: list(classes.classes(task, most=0)), points.agree, points.are_steady, points.disagreement,
     points.needed, points.fewest, lambda task: compare.apart(task, task),
-    lambda task: compare.apart(Task(WIDE, 1), task),
+    lambda task: compare.apart(Task(WIDE, 1), task), papers.agreement_paper, papers.fewest_paper,
+    lambda task: papers.likeness_paper(task, task), lambda task: papers.likeness_paper(Task(WIDE, 1), task),
 ]
 
 

@@ -6,7 +6,9 @@ import pathlib
 import unittest
 
 import ordersopen
-from ordersopen import classes, compare, functions, orders, points, results, steps, tasks, texts
+from ordersopen import (
+    bench, cases, checker, classes, compare, functions, orders, papers, points, results, steps, tasks, texts,
+)
 
 FOLDER = pathlib.Path(ordersopen.__file__).parent
 
@@ -34,6 +36,14 @@ DEFINED = {
     "points": dict.fromkeys(["agree", "are_steady", "disagreement", "needed", "need_order", "fewest"]),
     "compare": dict.fromkeys(["apart"]),
     "texts": dict.fromkeys(["read_task", "show_term"]),
+    "cases": {
+        "Run": ["__init__", "done", "asked", "ready", "truths", "is_over", "outcome", "do", "tell", "finish", "state",
+                "trial", "__len__"],
+        **dict.fromkeys(["cases", "runs", "case_results", "clash"]),
+    },
+    "papers": dict.fromkeys(["agreement_paper", "path_paper", "fewest_paper", "likeness_paper", "guard_paper"]),
+    "checker": dict.fromkeys(["holds"]),
+    "bench": {"Bench": ["__init__", "put", "point", "unpoint", "undo", "trial", "__len__"]},
 }
 
 SIGNATURES = [
@@ -76,6 +86,28 @@ SIGNATURES = [
     (compare.apart, "(one, other)"),
     (texts.read_task, "(book, text)"),
     (texts.show_term, "(term)"),
+    (cases.Run, "(task, truths=())"),
+    (cases.Run.do, "(self, step)"),
+    (cases.Run.tell, "(self, truth)"),
+    (cases.Run.finish, "(self)"),
+    (cases.Run.state, "(self)"),
+    (cases.Run.trial, "(self, function)"),
+    (cases.cases, "(task)"),
+    (cases.runs, "(task, case=())"),
+    (cases.case_results, "(task, case=())"),
+    (cases.clash, "(task, case=())"),
+    (papers.agreement_paper, "(task)"),
+    (papers.path_paper, "(task, one, other)"),
+    (papers.fewest_paper, "(task)"),
+    (papers.likeness_paper, "(one, other)"),
+    (papers.guard_paper, "(task)"),
+    (checker.holds, "(book, value)"),
+    (bench.Bench, "(task)"),
+    (bench.Bench.put, "(self, path, expression)"),
+    (bench.Bench.point, "(self, path)"),
+    (bench.Bench.unpoint, "(self, path)"),
+    (bench.Bench.undo, "(self)"),
+    (bench.Bench.trial, "(self, function)"),
 ]
 
 
@@ -96,8 +128,14 @@ class Interface(unittest.TestCase):
                 self.assertIsInstance(found.get(name), ast.FunctionDef if methods is None else ast.ClassDef, name)
                 self.assertLessEqual(set(methods or ()), body_names(found[name]) if methods else set(), name)
 
-    def test_classes_is_a_generator(self):
+    def test_generators(self):
         self.assertTrue(inspect.isgeneratorfunction(classes.classes))
+        self.assertTrue(inspect.isgeneratorfunction(cases.runs))
+
+    def test_properties(self):
+        for name in ("done", "asked", "ready", "truths", "is_over", "outcome"):
+            self.assertIsInstance(vars(cases.Run)[name], property)
+        self.assertIsInstance(vars(functions.Book)["names"], property)
 
     def test_arguments(self):
         for thing, expected in SIGNATURES:
