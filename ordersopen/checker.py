@@ -133,12 +133,15 @@ def are_too_few(task, many, rows):
 
 def is_too_few(task, many, row):
     """Tell whether any value is a tuple of so many nodes, and a class that remains and has another result than ()."""
-    if not isinstance(row, tuple) or len(row) != 2 or not are_new_points(task, row[0]) or len(row[0]) != many:
+    if not is_pair(row):
+        return False
+    smaller, flips = row
+    if not are_new_points(task, smaller) or len(smaller) != many:
         return False
     # A class remains with some points exactly if it is a class of the task with these points.
-    fixed = task.with_points(*row[0])
+    fixed = task.with_points(*smaller)
     racing = racing_of(fixed)
-    bits = racing.bits_of(row[1])
+    bits = racing.bits_of(flips)
     terms = Terms()
     return bits is not None and ending_in(fixed, racing, bits, terms) != ending_in(fixed, racing, 0, terms)
 

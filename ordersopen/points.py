@@ -45,7 +45,8 @@ def need_order(task, path):
     if not is_open_path(task.expression, path) or path not in found:
         raise NoNode(path)
     one, other = found[path]
-    fixed = task.with_points(*[point for point in task.open_nodes() if point != path])
+    others = [point for point in task.open_nodes() if point != path]
+    fixed = task.with_points(*others)
     ahead = members(fixed.layout.befores[one] | fixed.layout.befores[other])
     behind = [step for step in range(len(task)) if step not in (*ahead, one, other)]
     return (*ahead, one, other, *behind)

@@ -33,6 +33,16 @@ TEXTS = [
 ]
 
 
+VALUES_ASKED_LATER = [
+    "((x = 1) + ((x + y) ? 1 : 2))", "((x = 1) + ((y * (x - 7)) || 2))", "((x = 1) + (g(x, y) && 2))",
+    "((x = 1) + (g((x, y), x) && 2))", "((x = 1) + (g(x, (y, x)) && 2))", "(((x = 1) + (z = (x + y))), (z && 1))",
+    "((x = 1) + ((z = (w = (x + y))) ? 1 : 2))", "(((x = 1) + (z = g(x, y))), (z && 1))",
+    "(((x = 1) + f((x + w))), (y && 1))", "(((x = 1) + (f((x + w)), 7)), (y && 1))", "(((x = 1) + (0, f((x + w)))), (y && 1))",
+    "((x = 1) + ((7, (x + y)) ? 1 : 2))", "((x = 1) + ((1 ? (x + y) : 2) ? 3 : 4))", "((x = 1) + ((0 || (x + y)) && 4))",
+    "((x++ + (x = 5)), (x && 1))", "((--x * (x = 5)), (x && 1))", "((x = 1) + ((f((x + w)) + y) && 1))",
+]
+
+
 def task_of(text):
     return read_task(WIDE, text)
 
@@ -363,6 +373,22 @@ class Cases(unittest.TestCase):
         self.assertEqual(cases(task), both)
         task = task_of("((x = 0) + (x ? (y && 1) : 2))")
         self.assertEqual(cases(task), [(("x", False),), (("x", True), ("y", False)), (("x", True), ("y", True))])
+
+    def test_values_that_come_to_be_asked_later(self):
+        # After the store and the read of x, in whichever order, only the value that was read differs.
+        for text in VALUES_ASKED_LATER:
+            task = task_of(text)
+            self.assertEqual(cases(task), cases_in(task), text)
+            self.assertTrue([case for case in cases(task) if len(case) > 1], text)
+
+    def test_values_that_no_guard_comes_to_ask(self):
+        for text, unasked in [
+            ("(x + y)", (0, 1)), ("(x = y)", (1,)), ("x++", (1,)), ("k()", (0,)), ("g(x, k())", (0, 1, 2)), ("f(x)", (1,)),
+            ("(x ? y : k())", (1, 2)), ("((x, y) ? 1 : 2)", (0,)), ("((x ? y : k()) && 1)", ()), ("((x = g(y, k())), n())", (3, 4)),
+            ("(z = (x, y))", (0, 2)), ("(g((x, y), 1) || x)", (0, 3)), ("(x++ + (y && --x))", (1, 4)),
+        ]:
+            task = task_of(text)
+            self.assertEqual(tuple(step for step in range(len(task)) if (task.layout.unasked >> step) & 1), unasked, text)
 
     def test_terms_that_are_asked_in_some_runs_only(self):
         # y is asked only if x is read ahead of the 0, and is true.

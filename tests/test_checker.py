@@ -389,6 +389,17 @@ class Holds(unittest.TestCase):
         task = task_of("(((x = (1 + y)), k()), (m(x) && 2))")
         kind, expression, points, tree = guard_paper(task)
         self.assertEqual(kind, "calm")
+        self.assertIs(self.check((kind, expression, points, tree)), True)
+        odd = [("first", ["x"]), ("value", ["k"], ()), ("value", "k", []), ("left", ["m"], "x", ()), ("left", "m", ["x"], ()),
+               ("left", "m", "x", []), ("first", "x", "x"), ("+", 1), ("+", 1, 2, 3), ("+", [1], 2), ("?", 1, 2), ("value",),
+               ("left",), ("first",), (), ("value", "k"), ("left", "m", "x"), (["first"], "x"), 1, True, ("+", True, 2), "x"]
+        last, others = tree[2][1][-1], tree[2][1][:-1]
+        for term in odd:
+            rows = [((*last[0][:-1], (last[0][-1][0], term)), last[1]), (last[0], ((last[1][0][0], term), *last[1][1:])),
+                    (last[0], ((term, last[1][0][1]), *last[1][1:])), (((term, 1), *last[0]), last[1])]
+            for value in rows:
+                paper = (kind, expression, points, (*tree[:2], ("states", [*others, value]), tree[3]))
+                self.assertIs(self.check(paper), same(value, last))
         for value in list(changed(tree[2][1][-1]))[::3]:
             self.check((kind, expression, points, (*tree[:2], ("states", [*tree[2][1][:-1], value]), tree[3])))
 
@@ -415,6 +426,31 @@ class Holds(unittest.TestCase):
         # Racing steps that lead to one result, and steps that do not race.
         self.assertIs(self.check(("clash", task_of("((x = 5) + (x = 5))").expression, (), (), (), 0, 1)), False)
         self.assertIs(self.check(("clash", task_of("(x + y)").expression, (), (), (), 0, 1)), False)
+
+    def test_agree_papers_of_orders_that_do_not_agree(self):
+        for task in [task_of("(x++ + x++)"), task_of("((x = 1) + x)"), *drawn_tasks(105, 30, 5)]:
+            here = facts(WIDE, task.expression, task.points)
+            for result in here.results:
+                paper = ("agree", task.expression, task.points, here.classes, result)
+                self.assertIs(self.check(paper), len(set(here.results)) == 1)
+
+    def test_differ_papers_in_both_directions(self):
+        for task in [task_of("(x++ + x++)"), task_of("((x = 1) + x)"), *drawn_tasks(106, 30, 5)]:
+            here = facts(WIDE, task.expression, task.points)
+            for flips, pair in itertools.product(here.classes[:12], here.races):
+                self.check(("differ", task.expression, task.points, flips, pair))
+        task = task_of("((x = 1) + x)")
+        for flips in ((), ((0, 1),)):
+            self.assertIs(self.check(("differ", task.expression, (), flips, (0, 1))), True)
+
+    def test_words_that_are_no_kinds(self):
+        for paper in papers():
+            for word in ("", "x", "Agree", "agree ", "states", "ask", "keys", paper[0] + "s"):
+                for many in range(len(paper) + 1):
+                    self.assertIs(self.check((word, *paper[1:many + 1])), False)
+            for many in range(len(paper)):
+                self.assertIs(self.check(paper[:many]), False)
+            self.assertIs(self.check((*paper, paper[-1])), False)
 
     def test_paths(self):
         task = task_of("(x++ + x++)")

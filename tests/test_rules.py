@@ -253,6 +253,24 @@ class Code(unittest.TestCase):
                 if isinstance(node, ast.Attribute) and id(node) not in functions:
                     self.assertIn(node.attr, known, name)
 
+    def test_calls_with_stars(self):
+        for name, node in all_nodes(ast.Call):
+            for argument in node.args:
+                if isinstance(argument, ast.Starred):
+                    value = argument.value.value if isinstance(argument.value, ast.Attribute) else argument.value
+                    self.assertIsInstance(value, ast.Name, f"{name}: line {node.lineno}")
+            self.assertTrue(all(keyword.arg for keyword in node.keywords), f"{name}: line {node.lineno}")
+
+    def test_what_stands_in_a_finally(self):
+        for name, node in all_nodes(ast.Try):
+            for child in node.finalbody:
+                self.assertIsInstance(child, ast.Assign, name)
+                for part in ast.walk(child):
+                    self.assertIsInstance(part, (ast.Assign, ast.Tuple, ast.Name, ast.Attribute, ast.expr_context), name)
+            for handler in node.handlers:
+                kinds = handler.type.elts if isinstance(handler.type, ast.Tuple) else [handler.type]
+                self.assertEqual([kind.id for kind in kinds if kind.id in BUILTINS - {"KeyError"}], [], name)
+
     def test_no_power_of_two(self):
         for name, node in all_nodes(ast.BinOp):
             if isinstance(node.op, ast.Pow):
